@@ -2,6 +2,7 @@ package entry
 
 import (
 	"postilion/api"
+	"postilion/idpack"
 	"postilion/pack"
 )
 
@@ -39,7 +40,7 @@ func Pack(r api.Record) ([]byte, api.Errno) {
 		b, told := Encode(r.Entry)
 		return pack.Bytes(out, b), told
 	case api.RAbort, api.RForget:
-		return layID(out, r.ID), api.OK
+		return idpack.Lay(out, r.ID), api.OK
 	}
 	return out, api.OK
 }
@@ -47,14 +48,14 @@ func Pack(r api.Record) ([]byte, api.Errno) {
 // Unpack is the record that bytes are.
 func Unpack(b []byte) (api.Record, api.Errno) {
 	from := pack.New(b)
-	r := api.Record{Kind: small(from)}
+	r := api.Record{Kind: idpack.Small(from)}
 	r.N = from.Number()
 	told := api.OK
 	switch r.Kind {
 	case api.REntry, api.RPromise:
 		r.Entry, told = Decode(from.Bytes(len(b)))
 	case api.RAbort, api.RForget:
-		r.ID = readID(from)
+		r.ID = idpack.Read(from)
 	}
 	if told != api.OK || !from.Done() || !record(r) {
 		return api.Record{}, api.ErrEntry
