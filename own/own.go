@@ -38,3 +38,9 @@ func Entry(x api.Entry) api.Entry {
 
 // Entries are entries' copies.
 func Entries(l []api.Entry) []api.Entry { return Each(l, Entry) }
+
+// State is a state's copy.
+func State(s api.State) api.State {
+	s.List, s.Promises, s.Aborted = Entries(s.List), Entries(s.Promises), Flat(s.Aborted)
+	return s
+}

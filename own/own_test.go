@@ -40,3 +40,22 @@ func TestSpareRoom(t *testing.T) {
 		t.Errorf("now %v", l)
 	}
 }
+
+// R4: a state's copy is the same, and shares nothing.
+func TestState(t *testing.T) {
+	make1 := func() api.State {
+		x := api.Entry{Kind: api.EPublish, Events: []api.Event{{{Name: "a", Value: value.Int(1)}}}}
+		return api.State{Life: 3, List: []api.Entry{x}, Promises: Entries([]api.Entry{x}), Aborted: []api.ID{{Broker: 1}}}
+	}
+	s := make1()
+	c := State(s)
+	if !reflect.DeepEqual(c, s) {
+		t.Fatalf("%v", c)
+	}
+	c.List[0].Events[0][0].Name = "q"
+	c.Promises[0].Events[0][0].Name = "q"
+	c.Aborted[0].Broker = 9
+	if !reflect.DeepEqual(s, make1()) {
+		t.Errorf("now %v", s)
+	}
+}
