@@ -44,3 +44,9 @@ func State(s api.State) api.State {
 	s.List, s.Promises, s.Aborted = Entries(s.List), Entries(s.Promises), Flat(s.Aborted)
 	return s
 }
+
+// Txn is a transaction's copy.
+func Txn(t api.Txn) api.Txn {
+	t.Entry = Entry(t.Entry)
+	return t
+}

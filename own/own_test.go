@@ -49,9 +49,11 @@ func TestState(t *testing.T) {
 	}
 	s := make1()
 	c := State(s)
-	if !reflect.DeepEqual(c, s) {
-		t.Fatalf("%v", c)
+	txn := Txn(api.Txn{Entry: s.List[0], Asked: true})
+	if !reflect.DeepEqual(c, s) || !txn.Asked || !reflect.DeepEqual(txn.Entry, s.List[0]) {
+		t.Fatalf("%v, %v", c, txn)
 	}
+	txn.Entry.Events[0][0].Name = "q"
 	c.List[0].Events[0][0].Name = "q"
 	c.Promises[0].Events[0][0].Name = "q"
 	c.Aborted[0].Broker = 9
