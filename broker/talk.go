@@ -161,22 +161,36 @@ func (b *Broker) report() api.Message {
 	}
 }
 
+// view is a list as some clients have it, by their subscriptions at a place.
+type view struct {
+	clients []int
+	list    []api.Entry
+	subs    []api.Subscription
+	place   int
+}
+
+// cut is an entry, cut by the subscriptions at a place, which is none ahead of those that were asked before.
+func (v *view) cut(x api.Entry, place int) api.Entry {
+	if x.Kind != api.EPublish {
+		// Nothing is cut of it: so one need not know the subscriptions, which takes long.
+		return x
+	}
+	v.subs = behind(v.subs, v.clients, v.list[v.place:place]...)
+	v.place = place
+	return table.Cut(v.subs, v.clients, x)
+}
+
 // command is what a kid is told.
 func (b *Broker) command(kid int) api.Message {
 	heard, list := b.reports[kid], b.state.List
 	have := min(heard.Have, uint64(len(list)))
-	clients := b.clients(kid)
-	subs := behind(nil, clients, list[:have]...)
-	var entries []api.Entry
-	for _, x := range order.From(list, have) {
-		entries = append(entries, table.Cut(subs, clients, x))
-		subs = behind(subs, clients, x)
+	v := &view{clients: b.clients(kid), list: list}
+	var entries, prepares []api.Entry
+	for i, x := range order.From(list, have) {
+		entries = append(entries, v.cut(x, int(have)+i))
 	}
-	// What may come is cut by the subscriptions at the list's end.
-	subs = behind(subs, clients, list[have+uint64(len(entries)):]...)
-	var prepares []api.Entry
 	for _, x := range b.coming() {
-		prepares = append(prepares, table.Cut(subs, clients, x))
+		prepares = append(prepares, v.cut(x, len(list)))
 	}
 	return api.Message{
 		Kind:     api.MCommand,
