@@ -455,12 +455,29 @@ func TestRootFull(t *testing.T) {
 	lasts(t, b, d)
 }
 
+// P20.4: a no that finds no room on the disk waits, too.
+func TestRootFullNo(t *testing.T) {
+	b, told := Open(0, []int{-1, 0}, []int{0}, made(t, 11))
+	if told != api.OK {
+		t.Fatal(told)
+	}
+	x, _ := b.Begin(0)
+	b.Commit(x)
+	b.Tick()
+	report(t, b, 1, api.Message{Votes: []api.Vote{{ID: x}}})
+	if len(b.Waiting()) != 1 || b.Status(x) != api.SAsked || len(b.State().Aborted) != 0 {
+		t.Errorf("%v, %d", b.Waiting(), b.Status(x))
+	}
+}
+
 // R4, P20.7: what is handed in, and answered, is nobody else's.
 func TestOwnMemory(t *testing.T) {
 	parents, homes := tree1(), homes1()
 	b, _ := Open(0, parents, homes, made(t, 20000))
 	clear(parents)
-	clear(homes)
+	for c := range homes {
+		homes[c] = 2
+	}
 	f, e := is("p"), p(1)
 	b.Sub(0, 1, f)
 	x, _ := b.Begin(0)

@@ -207,6 +207,18 @@ func TestCommand(t *testing.T) {
 	}
 }
 
+// P20.6: a command has no more promises than a list of a message.
+func TestCommandLong(t *testing.T) {
+	d := made(t, 20000)
+	for n := range uint64(20) {
+		records(t, d, api.Record{Kind: api.RPromise, Entry: pub(n)})
+	}
+	b, _ := Open(1, tree1(), homes1(), d)
+	if m := sent(t, b)[3]; !reflect.DeepEqual(serials(m.Prepares), serials(pubs(0, 1, 2, 3, 4, 5, 6, 7, 8, 9, 10, 11, 12, 13, 14, 15))) {
+		t.Errorf("%v", m.Prepares)
+	}
+}
+
 // P20.6: the root's commands: what waits, and what its log says aborted; kids rising.
 func TestRootCommand(t *testing.T) {
 	b, _ := fresh(t, 0)

@@ -205,6 +205,10 @@ func TestDecode(t *testing.T) {
 			t.Errorf("%d, with a byte behind: %v, %d", i, got, told)
 		}
 	}
+	eight, _ := Encode(may()[:api.MaxTests])
+	if f, told := Decode(eight); told != api.OK || !reflect.DeepEqual(f, api.Filter(may()[:api.MaxTests])) {
+		t.Errorf("as many tests as there may be: %v, %d", f, told)
+	}
 	if f, told := Decode([]byte{0}); told != api.OK || len(f) != 0 {
 		t.Errorf("a filter without a test: %v, %d", f, told)
 	}

@@ -92,6 +92,10 @@ func TestTwice(t *testing.T) {
 	if l := x.Match(append(p(1), p(2)...)); !slices.Equal(l, []uint64{1, 3}) {
 		t.Errorf("%v", l)
 	}
+	x.Add(5, api.Filter{is("q")})
+	if l := x.Match(append(append(p(2), p(1)...), api.Attr{Name: "q", Value: value.Int(1)})); !slices.Equal(l, []uint64{2, 5}) {
+		t.Errorf("behind one that stands twice: %v", l)
+	}
 	if l := x.Match(nil); len(l) != 0 {
 		t.Errorf("of no event: %v", l)
 	}
@@ -160,6 +164,9 @@ func TestOwnMemory(t *testing.T) {
 	_ = append(g, is("y"))
 	if l := x.Match(p(1)); !slices.Equal(l, []uint64{1}) || f[1] != is("q") {
 		t.Errorf("%v", l)
+	}
+	if g, _ := x.Filter(1); !reflect.DeepEqual(g, api.Filter{of(api.TEq, 1)}) {
+		t.Errorf("now %v", g)
 	}
 	x.Drop(1)
 	if l := x.Match(p(1)); len(l) != 0 {

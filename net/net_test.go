@@ -80,6 +80,10 @@ func TestSend(t *testing.T) {
 	if got := take(n, 0, 1); !slices.Equal(got, l) {
 		t.Errorf("taken: %q", got)
 	}
+	send(t, n, 1, 0, l...)
+	if n.Send(1, 0, nil) != api.ErrQueue || n.Long(1, 0) != api.MaxQueue {
+		t.Error("one too many, to the parent")
+	}
 	if b, told := n.Take(0, 1); len(b) != 0 || told != api.ErrQueue {
 		t.Errorf("of none: %q, %d", b, told)
 	}

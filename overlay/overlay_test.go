@@ -224,6 +224,18 @@ func TestRound(t *testing.T) {
 	}
 }
 
+// P21.3: in a round each broker sends twice, the root, too.
+func TestRoundTwice(t *testing.T) {
+	w, _ := New([]int{-1}, []int{0}, 5000)
+	for range api.MaxOpen {
+		commits(t, w, 0, p(1))
+	}
+	w.Round()
+	if len(w.State(0).List) != 2*api.MaxAsks || w.Busy(0) != 0 {
+		t.Errorf("%d entries", len(w.State(0).List))
+	}
+}
+
 // P21.4: who may call what.
 func TestClientErrors(t *testing.T) {
 	w := made(t, 5000)

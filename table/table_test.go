@@ -50,6 +50,9 @@ func TestApply(t *testing.T) {
 	if got := Apply(s, sub(1, 9, over(3))); !reflect.DeepEqual(got, want) {
 		t.Errorf("in another one's place: %v", got)
 	}
+	if got := Apply(s, sub(0, 8, is("z"))); len(got) != len(s) || !reflect.DeepEqual(got[0].Filter, is("z")) {
+		t.Errorf("in the first one's place: %v", got)
+	}
 	want[2].Filter = nil
 	if got := Apply(s, sub(1, 9, nil)); !reflect.DeepEqual(got, want) {
 		t.Errorf("a filter without a test: %v", got)

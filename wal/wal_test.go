@@ -199,6 +199,11 @@ func TestOwnMemory(t *testing.T) {
 	if string(in[2]) != "ef" {
 		t.Errorf("now %q", in[2])
 	}
+	in = bytesOf("ij", "kl")
+	l.Rewrite(in...)
+	in[0][0] = 'z'
+	in[1] = nil
+	says(t, l, "ij", "kl")
 }
 
 // R1: no log, and one that Open did not make.
