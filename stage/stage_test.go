@@ -44,16 +44,21 @@ func many(n int) []api.Txn {
 func sized(t *testing.T, before []api.Event, want int) api.Event {
 	t.Helper()
 	var e api.Event
+	bytes := func(a api.Attr) int {
+		b, _ := entry.Encode(pub(1, append(slices.Clone(before), append(slices.Clone(e), a))...))
+		return len(b)
+	}
+	attr := func(i, name, text int) api.Attr {
+		return api.Attr{Name: strings.Repeat(string(rune('a'+i)), name), Value: value.Text(strings.Repeat("x", text))}
+	}
 	for i := range api.MaxAttrs {
-		letter := string(rune('a' + i))
-		for long := range api.MaxName * (api.MaxText + 1) {
-			a := api.Attr{Name: strings.Repeat(letter, 1+long%api.MaxName), Value: value.Text(strings.Repeat("x", long/api.MaxName))}
-			all := append(slices.Clone(before), append(slices.Clone(e), a))
-			if b, _ := entry.Encode(pub(1, all...)); len(b) == want {
-				return all[len(before)]
+		full := attr(i, api.MaxName, api.MaxText)
+		for long := 0; bytes(full) >= want && long < api.MaxName*(api.MaxText+1); long++ {
+			if a := attr(i, 1+long%api.MaxName, long/api.MaxName); bytes(a) == want {
+				return append(e, a)
 			}
 		}
-		e = append(e, api.Attr{Name: strings.Repeat(letter, api.MaxName), Value: value.Text(strings.Repeat("x", api.MaxText))})
+		e = append(e, full)
 	}
 	t.Fatalf("no entry has %d bytes", want)
 	return nil
